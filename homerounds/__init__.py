@@ -1,0 +1,1 @@
+"""Machines, words, rows of states, and what is told of their turnings."""
