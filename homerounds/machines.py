@@ -1,6 +1,6 @@
 """Machines, words, how a state turns a word, and what stands behind it."""
 
-from homerounds.errors import NoMachine, NoState, NoWord
+from homerounds.errors import NoLetter, NoMachine, NoState, NoWord
 from homerounds.things import are_within, is_tuple_of, is_within
 
 FEWEST_LETTERS = 2
@@ -11,12 +11,17 @@ LONGEST_WORD = 200
 
 def is_machine(thing):
     """Whether it is a tuple (number of letters, states) of a machine."""
+    return is_table(thing, MOST_STATES)
+
+
+def is_table(thing, most):
+    """Whether it is a tuple (number of letters, states) with at most so many states."""
     if not is_tuple_of(thing, 2, 2):
         return False
     letters, states = thing
     if not is_within(letters, FEWEST_LETTERS, MOST_LETTERS):
         return False
-    if not is_tuple_of(states, 1, MOST_STATES):
+    if not is_tuple_of(states, 1, most):
         return False
     return all([is_state_of(letters, len(states), state) for state in states])
 
@@ -73,17 +78,36 @@ def need_word(letters, thing):
         raise NoWord("a word is a tuple of at most 200 letters")
 
 
+def need_letter(letters, thing):
+    """Refuse what is none of so many letters."""
+    if not is_within(thing, 0, letters - 1):
+        raise NoLetter("letters are the numbers from 0 on")
+
+
+def turned_from(states, state, word):
+    """The word into which the state of the table turns the word."""
+    told = []
+    for letter in word:
+        turns, nexts = states[state]
+        told.append(turns[letter])
+        state = nexts[letter]
+    return tuple(told)
+
+
+def state_after(states, state, word):
+    """The number of the state of the table that the state hands on to along the word."""
+    for letter in word:
+        nexts = states[state][1]
+        state = nexts[letter]
+    return state
+
+
 def state_turned(machine, state, word):
     """The word into which the state turns the word."""
     need_machine(machine)
     need_state(machine, state)
     need_word(machine[0], word)
-    told = []
-    for letter in word:
-        turns, nexts = machine[1][state]
-        told.append(turns[letter])
-        state = nexts[letter]
-    return tuple(told)
+    return turned_from(machine[1], state, word)
 
 
 def state_behind(machine, state, word):
@@ -91,7 +115,4 @@ def state_behind(machine, state, word):
     need_machine(machine)
     need_state(machine, state)
     need_word(machine[0], word)
-    for letter in word:
-        nexts = machine[1][state][1]
-        state = nexts[letter]
-    return state
+    return state_after(machine[1], state, word)

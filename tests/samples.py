@@ -2,6 +2,9 @@
 
 from itertools import product
 
+from homerounds.errors import TooMany
+from tests import reference
+
 # State 0 adds one to a number told by its bits, the least bit first; state 1 turns nothing.
 ADDING = (2, (((1, 0), (1, 0)), ((0, 1), (1, 1))))
 
@@ -18,6 +21,51 @@ FOUR = (4, tuple([
 ]))
 
 ONE_STATE = (2, (((1, 0), (0, 0)),))
+
+# Of Grigorchuk: a, b, c, d and the idle state, all of order 2, (a b) of order 16.
+GRIGORCHUK = (2, (
+    ((1, 0), (4, 4)), ((0, 1), (0, 2)), ((0, 1), (0, 3)), ((0, 1), (4, 1)), ((0, 1), (4, 4)),
+))
+
+# Of Gupta and Sidki: a turns the letters round, t is of order 3, as all is of an order that 3s make up.
+GUPTA_SIDKI = (3, (
+    ((1, 2, 0), (2, 2, 2)), ((0, 1, 2), (0, 3, 1)), ((0, 1, 2), (2, 2, 2)), ((2, 0, 1), (2, 2, 2)),
+))
+
+# Of Aleshin: rows of signs there alone are all unlike.
+ALESHIN = (2, (((1, 0), (2, 1)), ((1, 0), (1, 2)), ((0, 1), (0, 0))))
+
+# Done once, twice, three and four times it has 5, 10, 18 and 16 states.
+SWELLING = (2, (
+    ((0, 1), (1, 2)), ((0, 1), (1, 1)), ((0, 1), (3, 2)), ((1, 0), (4, 0)), ((0, 1), (4, 0)),
+))
+
+# Done four times it is idle, and twice it has 17 states.
+ROUND_AND_ROUND = (4, (
+    ((1, 2, 3, 0), (1, 2, 2, 3)), ((3, 0, 1, 2), (4, 4, 4, 4)), ((0, 3, 2, 1), (5, 6, 5, 5)),
+    ((1, 2, 3, 0), (7, 8, 7, 9)), ((0, 1, 2, 3), (4, 4, 4, 4)), ((3, 0, 2, 1), (4, 6, 6, 6)),
+    ((1, 2, 3, 0), (4, 4, 4, 4)), ((3, 0, 2, 1), (10, 1, 10, 1)), ((0, 2, 1, 3), (1, 1, 1, 4)),
+    ((0, 1, 3, 2), (4, 1, 1, 1)), ((2, 3, 0, 1), (4, 4, 4, 4)),
+))
+
+# Letters 0 and 1 are turned about; done twice it has 21 states, and yet behind letter 0 it has 4 then.
+SMALL_BEHIND = (3, (
+    ((1, 0, 2), (1, 2, 3)), ((0, 2, 1), (1, 1, 2)), ((2, 0, 1), (2, 1, 1)), ((2, 0, 1), (4, 2, 0)),
+    ((0, 2, 1), (1, 5, 5)), ((1, 0, 2), (5, 1, 5)),
+))
+
+SIXTEEN_RETURNS = (
+    (2, (((1, 0), (1, 2)), ((1, 0), (2, 2)), ((0, 1), (3, 4)), ((0, 1), (4, 5)), ((1, 0), (6, 6)),
+         ((0, 1), (4, 6)), ((0, 1), (6, 6)))),
+    (3, (((1, 2, 0), (1, 2, 3)), ((0, 1, 2), (2, 2, 2)), ((1, 2, 0), (4, 4, 3)), ((0, 2, 1), (5, 5, 4)),
+         ((0, 1, 2), (4, 4, 4)), ((2, 0, 1), (4, 4, 4)))),
+)
+SEVENTEEN_RETURNS = (
+    (2, (((1, 0), (1, 2)), ((0, 1), (3, 3)), ((0, 1), (3, 1)), ((0, 1), (4, 5)), ((1, 0), (5, 6)),
+         ((1, 0), (6, 6)), ((0, 1), (6, 6)))),
+    (3, (((2, 0, 1), (1, 2, 3)), ((0, 1, 2), (2, 4, 2)), ((2, 0, 1), (2, 2, 2)), ((0, 1, 2), (1, 1, 4)),
+         ((2, 1, 0), (2, 2, 2)))),
+)
 
 HUGE = 10 ** 5000
 
@@ -39,6 +87,21 @@ ODD_THINGS = (
 )
 
 NO_MACHINES = ODD_THINGS + ((), (0,), (0, 1), (ADDING,), (2,))
+
+NO_ROWS = (
+    None, True, 0, "", "0", [], [0], [0, -1], (2,), (-3,), (0, 2), (0, -3), (True,), (0, False), (None,), ("0",),
+    ((0,),), ([0],), (HUGE,), (-HUGE,), (0,) * 17, nested(8), ADDING,
+)
+
+NO_WORDS = (
+    None, True, 0, 1, "", "01", [], [0, 1], (2,), (-1,), (0, 2), (0, -1), (True,), (0, False), (None,), ("0",),
+    ((0,),), ([0],), (HUGE,), (0,) * 201, nested(8), ADDING,
+)
+
+NO_LETTERS = (None, True, False, "0", "", (), (0,), [0], [], -1, -2, 4, HUGE, -HUGE, nested(8), ADDING)
+
+# Of what looks like a length.
+NO_LENGTHS = (None, True, False, "1", "", (), (1,), [1], [], -1, -2, 201, 202, HUGE, -HUGE, nested(8), ADDING)
 
 
 def words_to(letters, length):
@@ -62,3 +125,86 @@ def told_by(deed, *handed_in):
     except ValueError as e:
         return type(e)
     return None
+
+
+def rows_to(machine, length):
+    """All rows of up to this many signs."""
+    many = len(machine[1])
+    return [row for signs in range(length + 1) for row in product(range(-many, many), repeat=signs)]
+
+
+def first_refusal(*refusals):
+    """The first of the classes that is one, None where none is."""
+    return next((refusal for refusal in refusals if refusal is not None), None)
+
+
+def chain(letters, many):
+    """A least table of so many states: it turns just the letter in place many - 2 about, and nothing behind it."""
+    nothing = tuple(range(letters))
+    told = [(nothing, (at + 1,) * letters) for at in range(many - 2)]
+    told += [(nothing[::-1], (many - 1,) * letters)] * (many > 1)
+    return (letters, tuple(told) + ((nothing, (many - 1,) * letters),))
+
+
+NO_DOINGS = NO_MACHINES + (
+    (2, ()), (2, (((0, 1), (0, 0)), ((0, 1), (1, 1)))), (2, (((0, 1), (1, 1)), ((0, 1), (0, 0)))),
+    (2, (((0, 1), (0, 1)), ((1, 0), (1, 1)), ((1, 0), (2, 2)))), (2, (((0, 1), (0, 0)), ((1, 0), (1, 1)))),
+    (2, (((0, 1), (2, 1)), ((1, 0), (1, 1)), ((0, 1), (2, 1)))),
+    (2, (((0, 1), (1, 0)), ((0, 1), (1, 0)), ((1, 0), (2, 2)))), ALESHIN, GRIGORCHUK, GUPTA_SIDKI,
+    (2, (((False, True), (0, 0)),)), (2, (((0, 1), (False, 0)),)), (2, (((0, 1), (0, 1)),)), (2, (((0, 0), (0, 0)),)),
+    (2, (((1, 2), (0, 0)),)), (2, (((0, 1), (0, 0, 0)),)), (2, (((0, 1), (0, -1)),)), (3, (((0, 1), (0, 0)),)),
+    (2, [((0, 1), (0, 0))]), (2, ([(0, 1), (0, 0)],)), (2, (([0, 1], (0, 0)),)), (2, (((0, 1), [0, 0]),)),
+    [2, (((0, 1), (0, 0)),)], (True, (((0, 1), (0, 0)),)), (1, (((0,), (0,)),)), (5, (((0, 1, 2, 3, 4), (0,) * 5),)),
+    chain(2, 17), chain(3, 17), chain(4, 17), chain(2, 40), chain(2, 3) + (0,), (2, chain(2, 3)[1], ()), (chain(2, 3),),
+)
+
+
+class Numbers:
+    """Numbers that look like chance and are the same on each run."""
+
+    def __init__(self, seed):
+        self.state = seed
+
+    def below(self, most):
+        self.state = (self.state * 6364136223846793005 + 1442695040888963407) % 2 ** 64
+        return (self.state >> 33) % most
+
+    def within(self, low, high):
+        return low + self.below(high - low + 1)
+
+    def turns(self, letters):
+        left = list(range(letters))
+        return tuple([left.pop(self.below(len(left))) for _ in range(letters)])
+
+    def word(self, letters, length):
+        return tuple([self.below(letters) for _ in range(length)])
+
+    def states(self, letters, many):
+        return tuple([
+            (self.turns(letters), tuple([self.below(many) for _ in range(letters)])) for _ in range(many)
+        ])
+
+    def machine(self, letters, most):
+        return (letters, self.states(letters, self.within(1, most)))
+
+    def row(self, machine, most):
+        many = len(machine[1])
+        return tuple([self.within(-many, many - 1) for _ in range(self.within(0, most))])
+
+
+def some_doings(letters, many, seed):
+    """Doings of up to 7 states, the same ones on each run."""
+    numbers = Numbers(seed)
+    told = []
+    for _ in range(many):
+        states = numbers.states(letters, numbers.within(1, 7))
+        told.append(reference.least(letters, reference.doing_chain((letters, states))))
+    return told
+
+
+def or_too_many(deed, *handed_in):
+    """What is told, None where TooMany is."""
+    try:
+        return deed(*handed_in)
+    except TooMany:
+        return None

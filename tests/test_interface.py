@@ -1,7 +1,7 @@
 import inspect
 import unittest
 
-from homerounds import machines, rows
+from homerounds import doings, levels, machines, orders, returns, rows
 
 INTERFACE = (
     (machines, "is_machine", ["thing"]),
@@ -13,6 +13,24 @@ INTERFACE = (
     (rows, "row_behind", ["machine", "row", "word"]),
     (rows, "row_back", ["machine", "row"]),
     (rows, "plain", ["machine", "row"]),
+    (doings, "is_doing", ["thing"]),
+    (doings, "idle", ["letters"]),
+    (doings, "doing_of", ["machine", "row"]),
+    (doings, "does", ["doing", "word"]),
+    (doings, "behind", ["doing", "word"]),
+    (doings, "joined", ["one", "other"]),
+    (doings, "back", ["doing"]),
+    (doings, "times", ["doing", "number"]),
+    (doings, "first_unlike", ["one", "other"]),
+    (levels, "all_words", ["letters", "length"]),
+    (levels, "rounds", ["doing", "length"]),
+    (levels, "flocks", ["machine", "length"]),
+    (levels, "way", ["machine", "one", "other"]),
+    (returns, "round_of", ["doing", "letter"]),
+    (returns, "return_at", ["doing", "letter"]),
+    (returns, "return_behind", ["doing", "word"]),
+    (returns, "returns", ["doing"]),
+    (orders, "order", ["doing"]),
 )
 
 

@@ -4,13 +4,9 @@ from copy import deepcopy
 from homerounds.errors import NoMachine, NoState, NoWord
 from homerounds.machines import is_machine, is_word, state_behind, state_turned
 from tests.samples import (
-    ADDING, FOUR, HUGE, NO_MACHINES, ODD_THINGS, ONE_STATE, THREE, nested, small_machines, told_by, words_to,
+    ADDING, FOUR, HUGE, NO_MACHINES, NO_WORDS, ODD_THINGS, ONE_STATE, THREE, nested, small_machines, told_by, words_to,
 )
 
-NO_WORDS = (
-    None, True, 0, 1, "", "01", [], [0, 1], (2,), (-1,), (0, 2), (0, -1), (True,), (0, False), (None,), ("0",),
-    ((0,),), ([0],), (HUGE,), (0,) * 201, nested(8), ADDING,
-)
 NO_STATES = (None, True, False, "0", "", (), (0,), [0], -1, 2, HUGE, -HUGE, nested(8))
 
 

@@ -1,25 +1,13 @@
 import unittest
 from copy import deepcopy
-from itertools import product
 
 from homerounds.errors import NoMachine, NoRow, NoWord
 from homerounds.machines import state_behind, state_turned
 from homerounds.rows import is_row, plain, row_back, row_behind, row_turned
 from tests.samples import (
-    ADDING, FOUR, HUGE, NO_MACHINES, ODD_THINGS, ONE_STATE, THREE, nested, small_machines, told_by, words_to,
+    ADDING, FOUR, NO_MACHINES, NO_ROWS, NO_WORDS, ODD_THINGS, ONE_STATE, THREE, rows_to, small_machines, told_by,
+    words_to,
 )
-
-NO_ROWS = (
-    None, True, 0, "", "0", [], [0], [0, -1], (2,), (-3,), (0, 2), (0, -3), (True,), (0, False), (None,), ("0",),
-    ((0,),), ([0],), (HUGE,), (-HUGE,), (0,) * 17, nested(8), ADDING,
-)
-NO_WORDS = (None, 0, "01", [], [0, 1], (2,), (-1,), (True,), (0,) * 201, nested(8))
-
-
-def rows_to(machine, length):
-    """All rows of up to this many signs."""
-    many = len(machine[1])
-    return [row for signs in range(length + 1) for row in product(range(-many, many), repeat=signs)]
 
 
 class IsRowTest(unittest.TestCase):
