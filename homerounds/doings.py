@@ -6,7 +6,7 @@ from homerounds.machines import (
 )
 from homerounds.reach import first_ways
 from homerounds.rows import need_row, other_way
-from homerounds.tables import MOST_HELD, back_states, joined_states, least_from
+from homerounds.tables import MOST_HELD, back_states, joined_states, least_from, renumbered
 from homerounds.things import need_number
 
 MOST_TIMES = 64
@@ -46,7 +46,12 @@ def undone(doing):
 
 def behind_letters(doing, word):
     """The doing behind the letters, as held as it is."""
-    return (doing[0], least_from(doing[1], state_after(doing[1], 0, word)))
+    return state_doing(doing, state_after(doing[1], 0, word))
+
+
+def state_doing(doing, at):
+    """The doing of the state, as held as the doing. No two of its states are alike, so none need be sought."""
+    return (doing[0], tuple(renumbered(doing[1], at)))
 
 
 def powers(doing, most):

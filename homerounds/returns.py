@@ -44,6 +44,22 @@ def return_graph(doing):
     return told, steps
 
 
+def return_onward(doing, letter, known):
+    """The return at the letter; known keeps what was worked out, as long words come to the same few again."""
+    if (doing, letter) not in known:
+        known[(doing, letter)] = return_from(doing, letter)
+    return known[(doing, letter)]
+
+
+def returns_along(doing, word):
+    """The returns at the word's beginnings, from the empty one to itself; TooMany where one isn't held."""
+    known = {}
+    told = [doing]
+    for letter in word:
+        told.append(return_onward(told[-1], letter, known))
+    return told
+
+
 def round_of(doing, letter):
     """The letters that the letter goes through under the doing, from it on."""
     need_doing(doing)
@@ -62,13 +78,7 @@ def return_behind(doing, word):
     """The return at the word: at each further letter the return of the one ahead."""
     need_doing(doing)
     need_word(doing[0], word)
-    # A long word comes to the same few returns again and again.
-    known = {}
-    for letter in word:
-        if (doing, letter) not in known:
-            known[(doing, letter)] = return_from(doing, letter)
-        doing = known[(doing, letter)]
-    return doing
+    return returns_along(doing, word)[-1]
 
 
 def returns(doing):

@@ -67,6 +67,26 @@ SEVENTEEN_RETURNS = (
          ((2, 1, 0), (2, 2, 2)))),
 )
 
+# (doing, lead, ring): at the beginnings of lead and ring, ring, .. there are just 16 returns, in all there are more.
+SIXTEEN_ALONG = (
+    ((2, (((0, 1), (1, 2)), ((1, 0), (3, 4)), ((1, 0), (2, 5)), ((1, 0), (3, 6)), ((0, 1), (2, 7)), ((0, 1), (5, 5)),
+          ((1, 0), (8, 5)), ((0, 1), (2, 5)), ((1, 0), (5, 5)))), (), (0, 0, 1, 1, 1, 1)),
+    ((3, (((2, 1, 0), (1, 2, 3)), ((2, 1, 0), (4, 4, 4)), ((0, 2, 1), (5, 6, 7)), ((0, 2, 1), (8, 8, 9)),
+          ((1, 0, 2), (10, 10, 10)), ((0, 2, 1), (10, 10, 10)), ((2, 0, 1), (10, 10, 10)), ((0, 1, 2), (10, 10, 4)),
+          ((2, 0, 1), (6, 6, 10)), ((2, 0, 1), (8, 8, 9)), ((0, 1, 2), (10, 10, 10)))), (0, 0, 2), (0, 1, 0, 1, 1)),
+    ((4, (((0, 1, 2, 3), (1, 2, 3, 4)), ((2, 1, 3, 0), (5, 6, 7, 8)), ((0, 1, 2, 3), (9, 10, 11, 7)),
+          ((1, 3, 0, 2), (12, 9, 12, 3)), ((2, 1, 0, 3), (7, 8, 7, 8)), ((2, 0, 1, 3), (9, 9, 13, 7)),
+          ((2, 3, 0, 1), (7, 8, 13, 9)), ((3, 1, 2, 0), (9, 9, 13, 7)), ((3, 0, 1, 2), (7, 8, 13, 9)),
+          ((0, 1, 2, 3), (9, 9, 9, 9)), ((3, 0, 1, 2), (9, 9, 9, 9)), ((3, 1, 0, 2), (13, 9, 9, 9)),
+          ((3, 1, 2, 0), (9, 10, 10, 9)), ((0, 2, 1, 3), (13, 9, 9, 9)))), (2, 3, 2), (3, 2, 2, 2, 2)),
+)
+# Here there are 17, and in the second one's place 18; all of them are held.
+MORE_ALONG = (
+    ((2, (((1, 0), (1, 2)), ((0, 1), (3, 4)), ((1, 0), (5, 5)), ((0, 1), (6, 2)), ((1, 0), (7, 4)), ((0, 1), (5, 5)),
+          ((0, 1), (8, 5)), ((1, 0), (2, 2)), ((1, 0), (5, 8)))), (1,), (0, 1, 0)),
+    (SIXTEEN_ALONG[0][0], (0,), (0, 1, 1, 0, 0)),
+)
+
 HUGE = 10 ** 5000
 
 
@@ -146,6 +166,29 @@ def chain(letters, many):
     return (letters, tuple(told) + ((nothing, (many - 1,) * letters),))
 
 
+def standing(turns, behind):
+    """The doing that turns the first letter so, and behind each letter does what stands in its place."""
+    states = [[turns, []]]
+    for doing in behind:
+        states[0][1].append(len(states))
+        states += [(one, tuple([len(states) + number for number in nexts])) for one, nexts in doing[1]]
+    states[0] = (turns, tuple(states[0][1]))
+    return reference.least(len(turns), reference.doing_chain((len(turns), tuple(states))))
+
+
+def marked(marks):
+    """Where a word is 0 so many times, then 1, it turns the next letter about if marks has 1 at this number, the marks
+    told again and again."""
+    many = len(marks)
+    states = [((0, 1), ((at + 1) % many, many if mark else many + 1)) for at, mark in enumerate(marks)]
+    states += [((1, 0), (many + 1, many + 1)), ((0, 1), (many + 1, many + 1))]
+    return reference.least(2, reference.doing_chain((2, tuple(states))))
+
+
+# Told again and again these are alike at 25 places, and not at the next one.
+MARKED_14 = marked((1,) * 12 + (0, 1))
+MARKED_13 = marked((1,) * 12 + (0,))
+
 NO_DOINGS = NO_MACHINES + (
     (2, ()), (2, (((0, 1), (0, 0)), ((0, 1), (1, 1)))), (2, (((0, 1), (1, 1)), ((0, 1), (0, 0)))),
     (2, (((0, 1), (0, 1)), ((1, 0), (1, 1)), ((1, 0), (2, 2)))), (2, (((0, 1), (0, 0)), ((1, 0), (1, 1)))),
@@ -199,6 +242,24 @@ def some_doings(letters, many, seed):
     for _ in range(many):
         states = numbers.states(letters, numbers.within(1, 7))
         told.append(reference.least(letters, reference.doing_chain((letters, states))))
+    return told
+
+
+def held_doings(letters, many, seed):
+    """Doings whose returns are told, of few states and not all of one kind, the same ones on each run."""
+    numbers = Numbers(seed)
+    told = []
+    while len(told) < many:
+        states = numbers.within(1, 6)
+        table = [
+            (numbers.turns(letters),
+             tuple([numbers.within(at, states) if numbers.below(3) else states for _ in range(letters)]))
+            for at in range(states)
+        ]
+        table.append((tuple(range(letters)), (states,) * letters))
+        doing = reference.least(letters, reference.doing_chain((letters, tuple(table))))
+        if doing is not None and reference.returns(doing) is not None:
+            told.append(doing)
     return told
 
 

@@ -1,7 +1,7 @@
 import inspect
 import unittest
 
-from homerounds import doings, levels, machines, orders, returns, rows
+from homerounds import doings, homes, levels, lively, machines, mirrors, orders, returns, rows
 
 INTERFACE = (
     (machines, "is_machine", ["thing"]),
@@ -31,6 +31,25 @@ INTERFACE = (
     (returns, "return_behind", ["doing", "word"]),
     (returns, "returns", ["doing"]),
     (orders, "order", ["doing"]),
+    (homes, "home", ["doing", "word"]),
+    (homes, "homes", ["doing", "word"]),
+    (homes, "endless", ["doing", "lead", "ring"]),
+    (homes, "homes_of", ["doing", "length"]),
+    (mirrors, "tree", ["doing", "length"]),
+    (mirrors, "mirrored", ["one", "other"]),
+    (mirrors, "mirror", ["one", "other", "word"]),
+    (lively, "lively", ["doing", "length"]),
+    (lively, "kind", ["doing"]),
+)
+
+METHODS = (
+    (mirrors, "Walk", "__init__", ["one", "other"]),
+    (mirrors, "Walk", "feed", ["letter"]),
+    (mirrors, "Walk", "take_back", ["many"]),
+    (mirrors, "Walk", "fork", []),
+    (mirrors, "Walk", "word", []),
+    (mirrors, "Walk", "image", []),
+    (mirrors, "Walk", "home", []),
 )
 
 
@@ -41,6 +60,14 @@ class InterfaceTest(unittest.TestCase):
                 function = getattr(module, name)
                 self.assertEqual(function.__module__, module.__name__)
                 self.assertEqual(list(inspect.signature(function).parameters), parameters)
+
+    def test_each_method_stands_in_its_class(self):
+        for module, name, method, parameters in METHODS:
+            with self.subTest(name=name, method=method):
+                kind = getattr(module, name)
+                self.assertEqual(kind.__module__, module.__name__)
+                self.assertIn(method, vars(kind))
+                self.assertEqual(list(inspect.signature(vars(kind)[method]).parameters)[1:], parameters)
 
 
 if __name__ == "__main__":
