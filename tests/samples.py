@@ -87,6 +87,33 @@ MORE_ALONG = (
     (SIXTEEN_ALONG[0][0], (0,), (0, 1, 1, 0, 0)),
 )
 
+# One letter's state behind the other's, of Basilica: its core has seven doings, two of them no state's.
+BASILICA = (2, (((0, 1), (2, 1)), ((1, 0), (2, 0)), ((0, 1), (2, 2))))
+
+CORES_OF_SIXTEEN = (
+    (2, (((0, 1), (5, 2)), ((0, 1), (5, 5)), ((0, 1), (3, 0)), ((1, 0), (5, 5)), ((1, 0), (5, 4)), ((0, 1), (5, 5)))),
+    (3, (((1, 2, 0), (1, 3, 0)), ((1, 2, 0), (3, 1, 3)), ((2, 1, 0), (3, 1, 2)), ((0, 1, 2), (3, 3, 3)))),
+    (4, (((0, 1, 2, 3), (3, 3, 1, 2)), ((0, 2, 1, 3), (3, 3, 3, 1)), ((1, 3, 2, 0), (3, 0, 3, 3)),
+         ((0, 1, 2, 3), (3, 3, 3, 3)))),
+)
+# Each of these, done and then a state's doing, is held; there are only too many of them.
+CORES_OF_SEVENTEEN = (
+    (2, (((1, 0), (3, 4)), ((1, 0), (4, 4)), ((1, 0), (4, 0)), ((0, 1), (1, 2)), ((0, 1), (4, 4)))),
+    (3, (((0, 2, 1), (1, 2, 2)), ((2, 0, 1), (2, 0, 0)), ((0, 1, 2), (2, 2, 2)))),
+    (4, (((2, 3, 1, 0), (2, 1, 0, 1)), ((2, 0, 1, 3), (2, 1, 2, 0)), ((0, 1, 2, 3), (2, 2, 2, 2)))),
+)
+# The core has from 8 to 12 doings, but one of them done and then a state's isn't held.
+CORES_NOT_GROWN = (
+    (2, (((0, 1), (5, 4)), ((0, 1), (0, 5)), ((0, 1), (3, 5)), ((0, 1), (4, 1)), ((1, 0), (0, 1)), ((0, 1), (5, 5)))),
+    (2, (((0, 1), (3, 4)), ((0, 1), (4, 0)), ((1, 0), (4, 4)), ((1, 0), (3, 1)), ((0, 1), (4, 4)))),
+    (3, (((1, 2, 0), (2, 0, 1)), ((2, 0, 1), (2, 0, 3)), ((2, 1, 0), (3, 3, 3)), ((0, 1, 2), (3, 3, 3)))),
+    (3, (((0, 2, 1), (4, 3, 2)), ((2, 1, 0), (4, 4, 4)), ((1, 0, 2), (3, 4, 4)), ((2, 0, 1), (0, 3, 1)),
+         ((0, 1, 2), (4, 4, 4)))),
+    (4, (((3, 1, 2, 0), (2, 6, 2, 5)), ((1, 2, 3, 0), (4, 3, 6, 6)), ((0, 3, 1, 2), (6, 0, 6, 6)),
+         ((1, 3, 2, 0), (0, 6, 6, 6)), ((3, 0, 1, 2), (3, 6, 6, 6)), ((3, 1, 2, 0), (6, 5, 6, 6)),
+         ((0, 1, 2, 3), (6, 6, 6, 6)))),
+)
+
 HUGE = 10 ** 5000
 
 
@@ -260,6 +287,21 @@ def held_doings(letters, many, seed):
         doing = reference.least(letters, reference.doing_chain((letters, tuple(table))))
         if doing is not None and reference.returns(doing) is not None:
             told.append(doing)
+    return told
+
+
+def some_machines(many, seed, most=5):
+    """Machines that have an idle state to which most lead, the same ones on each run."""
+    numbers = Numbers(seed)
+    told = []
+    for _ in range(many):
+        letters, states = numbers.within(2, 4), numbers.within(1, most)
+        table = [
+            (numbers.turns(letters),
+             tuple([numbers.below(states) if numbers.below(3) == 0 else states for _ in range(letters)]))
+            for _ in range(states)
+        ]
+        told.append((letters, (*table, (tuple(range(letters)), (states,) * letters))))
     return told
 
 

@@ -1,7 +1,9 @@
 import inspect
 import unittest
 
-from homerounds import doings, homes, levels, lively, machines, mirrors, orders, returns, rows
+from homerounds import (
+    cores, doings, homes, house, levels, lively, looker, machines, mirrors, oneround, orders, returns, rows,
+)
 
 INTERFACE = (
     (machines, "is_machine", ["thing"]),
@@ -40,6 +42,11 @@ INTERFACE = (
     (mirrors, "mirror", ["one", "other", "word"]),
     (lively, "lively", ["doing", "length"]),
     (lively, "kind", ["doing"]),
+    (oneround, "odd", ["doing", "length"]),
+    (oneround, "one_round", ["doing"]),
+    (cores, "core", ["machine"]),
+    (cores, "depth", ["machine", "row"]),
+    (looker, "look", ["paper"]),
 )
 
 METHODS = (
@@ -50,6 +57,25 @@ METHODS = (
     (mirrors, "Walk", "word", []),
     (mirrors, "Walk", "image", []),
     (mirrors, "Walk", "home", []),
+    (house, "House", "__init__", ["machine"]),
+    (house, "House", "put", ["name", "row"]),
+    (house, "House", "join", ["name", "one", "other"]),
+    (house, "House", "turn_back", ["name", "one"]),
+    (house, "House", "take_out", ["name"]),
+    (house, "House", "exchange", ["state", "one", "other"]),
+    (house, "House", "lead", ["state", "letter", "next_state"]),
+    (house, "House", "back", ["number"]),
+    (house, "House", "mark", []),
+    (house, "House", "machine", []),
+    (house, "House", "names", []),
+    (house, "House", "marks", []),
+    (house, "House", "row", ["name"]),
+    (house, "House", "doing", ["name"]),
+    (house, "House", "order", ["name"]),
+    (house, "House", "home", ["name", "word"]),
+    (house, "House", "unlike", ["one", "other"]),
+    (house, "House", "mirrored", ["one", "other"]),
+    (house, "House", "kind", ["name"]),
 )
 
 
