@@ -80,11 +80,12 @@ def mirrored_wrong(paper):
         return 0
     # All returns at letters are asked for, also where an earlier pair is wrong.
     behind = {}
-    for doing in [doing for pair in pairs for doing in pair]:
-        if doing not in behind:
-            behind[doing] = rounds_behind(doing)
+    for pair in pairs:
+        for doing in pair:
+            if doing not in behind:
+                behind[doing] = rounds_behind(doing)
     together = {pair: True for pair in pairs}
-    if not all([can_be_paired(behind[doing], behind[beside], together) for doing, beside in pairs]):
+    if not all([can_be_paired(behind[first], behind[second], together) for first, second in pairs]):
         return 1
     return None
 

@@ -370,7 +370,8 @@ def kind_and_number(doing):
     while chains:
         longest += 1
         chains = {
-            (chain[-1], to) for chain in chains for to in ringed if (chain[-1], to) in told and (to, chain[-1]) not in told
+            (chain[-1], to) for chain in chains for to in ringed
+            if (chain[-1], to) in told and (to, chain[-1]) not in told
         }
     if longest:
         return ("power", longest - 1)

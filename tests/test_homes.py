@@ -17,7 +17,8 @@ A_T = reference.row_doing(GUPTA_SIDKI, (0, 1))
 # Letters go round in fours and in threes, now so and now so, and 0 to 2 of 3 come home at unlike times.
 FOURS_AND_THREES = (4, (((1, 2, 3, 0), (1, 2, 2, 2)), ((1, 2, 0, 3), (0, 2, 2, 0)), ((0, 1, 2, 3), (2, 2, 2, 2))))
 OF_MANY_HOMES = reference.least(4, reference.doing_chain((4, (
-    ((0, 1, 2, 3), (0, 1, 2, 3)), ((1, 2, 3, 0), (0, 4, 4, 4)), ((1, 2, 0, 3), (0, 4, 4, 0)), ((1, 0, 2, 3), (0, 4, 1, 2)),
+    ((0, 1, 2, 3), (0, 1, 2, 3)), ((1, 2, 3, 0), (0, 4, 4, 4)), ((1, 2, 0, 3), (0, 4, 4, 0)),
+    ((1, 0, 2, 3), (0, 4, 1, 2)),
     ((0, 1, 2, 3), (4, 4, 4, 4)),
 ))))
 SMALL_AHEAD = reference.least(3, reference.doing_chain((3, (((0, 1, 2), (1, 6, 6)),) + tuple([

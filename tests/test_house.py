@@ -3,7 +3,9 @@ from copy import deepcopy
 from itertools import product
 
 from homerounds import doings, homes, lively, mirrors, orders
-from homerounds.errors import Full, NoLetter, NoMachine, NoMark, NoName, NoRow, NoState, NoWord, Standing, TooLong, TooMany
+from homerounds.errors import (
+    Full, NoLetter, NoMachine, NoMark, NoName, NoRow, NoState, NoWord, Standing, TooLong, TooMany,
+)
 from homerounds.house import House
 from homerounds.machines import is_machine
 from tests import reference
@@ -207,7 +209,8 @@ class JoinTest(unittest.TestCase):
 class TurnBackTest(unittest.TestCase):
     def test_by_hand(self):
         for row, told in (
-            ((), ()), ((0,), (-1,)), ((-1,), (0,)), ((0, 1, -3), (2, -2, -1)), ((0, -1), ()), ((0, 1, -2, -1, 2), (-3,)),
+            ((), ()), ((0,), (-1,)), ((-1,), (0,)), ((0, 1, -3), (2, -2, -1)), ((0, -1), ()),
+            ((0, 1, -2, -1, 2), (-3,)),
             ((1, 0, -1, -2, 3, -4), ()), ((2, 2, -3), (-3,)), ((0,) * 16, (-1,) * 16),
         ):
             house = with_rows(GRIGORCHUK, {"one": row})

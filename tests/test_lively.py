@@ -27,7 +27,7 @@ def rings_in_a_row(many):
 
 
 def long_rings(lengths):
-    """Rings of these lengths, one behind another: letter 0 goes round, letter 1 leads on from the ring's first state."""
+    """Rings of these lengths, one behind another: letter 0 goes round, letter 1 leads on from a ring's first state."""
     total = sum(lengths)
     states = []
     for at, length in enumerate(lengths):
@@ -51,7 +51,8 @@ class LivelyTest(unittest.TestCase):
     def test_by_hand(self):
         for doing, length, told in (
             (ADDING, 0, 1), (ADDING, 7, 1), (ADDING, 200, 1), (idle(2), 0, 0), (idle(4), 200, 0), (ONE_STATE, 0, 1),
-            (ONE_STATE, 7, 128), (chain(2, 2), 0, 1), (chain(2, 2), 1, 0), (chain(2, 5), 3, 8), (chain(2, 5), 4, 0), (chain(4, 16), 14, 4 ** 14),
+            (ONE_STATE, 7, 128), (chain(2, 2), 0, 1), (chain(2, 2), 1, 0), (chain(2, 5), 3, 8), (chain(2, 5), 4, 0),
+            (chain(4, 16), 14, 4 ** 14),
             (chain(4, 16), 15, 0), (ALESHIN_DOING, 0, 1), (ALESHIN_DOING, 200, 2 ** 200), (rings_in_a_row(2), 5, 6),
             (rings_in_a_row(15), 0, 1),
         ):

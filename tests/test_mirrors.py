@@ -36,14 +36,17 @@ PAIRED = (
     (standing((0, 1), (ADDING, ONE_STATE)), standing((0, 1), (ONE_STATE, TAKING))),
     (standing((0, 2, 1), (ADDS_3, idle(3), ADDS_3)), standing((1, 0, 2), (idle(3), ADDS_BACK_3, ADDS_BACK_3))),
     (standing((0, 1, 2), (ADDS_3, idle(3), ADDS_BACK_3)), standing((0, 1, 2), (idle(3), ADDS_3, ADDS_BACK_3))),
-    (standing(FIXED, (ADDS_4, SHORT_4, ADDS_BACK_4, SHORT_4)), standing(FIXED, (SHORT_4, ADDS_BACK_4, SHORT_4, ADDS_4))),
+    (standing(FIXED, (ADDS_4, SHORT_4, ADDS_BACK_4, SHORT_4)),
+     standing(FIXED, (SHORT_4, ADDS_BACK_4, SHORT_4, ADDS_4))),
     (standing(FIXED, (ADDS_4, ADDS_BACK_4, ADDS_4, idle(4))), standing(FIXED, (idle(4), ADDS_4, ADDS_4, ADDS_BACK_4))),
     (standing((1, 0, 3, 2), (ADDS_4, idle(4), SHORT_4, idle(4))),
      standing((2, 3, 0, 1), (idle(4), idle(4), ADDS_BACK_4, SHORT_4))),
     (standing((0, 2, 3, 1), (SHORT_4, ADDS_4, idle(4), SHORT_4)),
      standing((3, 1, 0, 2), (SHORT_4, SHORT_4, ADDS_BACK_4, idle(4)))),
-    (standing((3, 0, 1, 2), (SHORT_4, ADDS_4, SHORT_4, idle(4))), standing((2, 3, 1, 0), (ADDS_4, idle(4), SHORT_4, SHORT_4))),
-    (standing((1, 0, 2, 3), (idle(4), ADDS_4, SHORT_4, ADDS_4)), standing((0, 1, 3, 2), (ADDS_BACK_4, SHORT_4, ADDS_4, idle(4)))),
+    (standing((3, 0, 1, 2), (SHORT_4, ADDS_4, SHORT_4, idle(4))),
+     standing((2, 3, 1, 0), (ADDS_4, idle(4), SHORT_4, SHORT_4))),
+    (standing((1, 0, 2, 3), (idle(4), ADDS_4, SHORT_4, ADDS_4)),
+     standing((0, 1, 3, 2), (ADDS_BACK_4, SHORT_4, ADDS_4, idle(4)))),
 )
 
 # Pairs that are parted, with the least length.
@@ -95,7 +98,8 @@ class TreeTest(unittest.TestCase):
 
     def test_to_the_sign(self):
         for letters, longest in ((2, 8), (3, 5), (4, 4)):
-            for doing in held_doings(letters, 25, 500 + letters) + [one for one in SIXTEEN_RETURNS if one[0] == letters]:
+            doings = held_doings(letters, 25, 500 + letters)
+            for doing in doings + [one for one in SIXTEEN_RETURNS if one[0] == letters]:
                 for length in range(longest + 1):
                     self.assertEqual(tree(doing, length), reference.tree(doing, length))
 

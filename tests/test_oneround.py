@@ -22,7 +22,8 @@ PARTED_LATE = (
 )
 ALESHIN_DOING = reference.row_doing(ALESHIN, (0,))
 KNOWN = (
-    ADDING, ONE_STATE, idle(2), reference.back(ADDING), reference.row_doing(GRIGORCHUK, (0, 1)), SWELLING, ALESHIN_DOING,
+    ADDING, ONE_STATE, idle(2), reference.back(ADDING), reference.row_doing(GRIGORCHUK, (0, 1)), SWELLING,
+    ALESHIN_DOING,
     chain(2, 2), chain(2, 16), MARKED_13, MARKED_14, SIXTEEN_RETURNS[0], SEVENTEEN_RETURNS[0], SIXTEEN_ALONG[0][0],
     MORE_ALONG[0][0],
 ) + PARTED_LATE
