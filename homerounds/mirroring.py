@@ -68,8 +68,10 @@ class Mirror:
 
 
 def round_behind(doing, least):
-    """For each letter of the round of the least one, from it on, a tuple: (the letter, what stands behind the least
-    one when the doing is done till it is this letter: a list, empty where it isn't done at all)."""
+    """For each letter of the least one's round, from it on, a tuple (letter, what stands behind the least one).
+
+    This is a list: of what stands there when the doing is done till the letter comes, empty where it isn't done.
+    """
     letters = round_from(doing, least)
     done = powers(doing, len(letters))
     behind_least = [[behind_letters(one, (least,))] for one in done]

@@ -197,6 +197,25 @@ class EndlessTest(unittest.TestCase):
             for letter in (0, letters - 1):
                 self.assertEqual(endless(chain(letters, 16), (), (letter,)), ("home", 2))
 
+    def test_returns_on_the_lead_count_too(self):
+        numbers = Numbers(46)
+        seen = {}
+        for doing in [doing for doing, _, _ in SIXTEEN_ALONG + MORE_ALONG] + list(SEVENTEEN_RETURNS):
+            for length in (1, 2, 3, 5, 8, 13, 21, 60, 200):
+                for _ in range(3):
+                    lead, ring = numbers.word(doing[0], length), numbers.word(doing[0], numbers.within(1, 3))
+                    told = or_too_many(endless, doing, lead, ring)
+                    self.assertEqual(told, reference.endless(doing, lead, ring))
+                    seen[told and told[0]] = seen.get(told and told[0], 0) + 1
+        self.assertGreater(min(seen["home"], seen["never"], seen[None]), 10)
+        # On the lead there are seventeen already, and the ring goes round at the last one.
+        doing, lead, ring = MORE_ALONG[0]
+        long_lead = (lead + ring * 60)[:180]
+        along = reference.returns_along(doing, long_lead)
+        self.assertEqual(len(set(along)), 17)
+        for letter in (0, 1):
+            self.assertIs(told_by(endless, doing, long_lead, (letter,)), TooMany)
+
     def test_other_words_returns_are_not_asked_for(self):
         for doing in (SMALL_BEHIND, SMALL_AHEAD) + SEVENTEEN_RETURNS:
             self.assertIs(reference.returns(doing), None)
